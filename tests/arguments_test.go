@@ -2,6 +2,7 @@ package tests
 
 import (
 	"math"
+	"slices"
 	"testing"
 
 	"loop.example/g00051/impl"
@@ -21,18 +22,6 @@ func bitsOf(list []float64) []uint64 {
 	return bits
 }
 
-func sameBits(a, b []uint64) bool {
-	if len(a) != len(b) {
-		return false
-	}
-	for i := range a {
-		if a[i] != b[i] {
-			return false
-		}
-	}
-	return true
-}
-
 func lists() [][]float64 {
 	return [][]float64{nil, {}, {1}, {none}, {3, 1, 2}, {none, 0, below0, high, -5, payload, low, 0.1, 0.2, 0.3}, filled(impl.MaxList, 2), filled(impl.MaxList+1, 2)}
 }
@@ -44,15 +33,15 @@ func TestListsStayAsTheyWere(t *testing.T) {
 		sum, count := impl.Sum(given)
 		mean := impl.Mean(given)
 		ordered := bitsOf(impl.Order(given))
-		if !sameBits(before, bitsOf(whole)) {
+		if !slices.Equal(before, bitsOf(whole)) {
 			t.Fatalf("a list of %d was written into", len(list))
 		}
 		sum2, count2 := impl.Sum(given)
-		if !sameFloat(sum, sum2) || count != count2 || !sameFloat(mean, impl.Mean(given)) || !sameBits(ordered, bitsOf(impl.Order(given))) {
+		if !sameFloat(sum, sum2) || count != count2 || !sameFloat(mean, impl.Mean(given)) || !slices.Equal(ordered, bitsOf(impl.Order(given))) {
 			t.Fatalf("a list of %d has two answers", len(list))
 		}
 		tight := append([]float64{}, list...)
-		if !sameBits(ordered, bitsOf(impl.Order(tight[:len(tight):len(tight)]))) {
+		if !slices.Equal(ordered, bitsOf(impl.Order(tight[:len(tight):len(tight)]))) {
 			t.Fatalf("a list of %d: the room behind it shows", len(list))
 		}
 	}
@@ -68,7 +57,7 @@ func TestOrderIsNewMemory(t *testing.T) {
 			first[i] = 99
 		}
 		first = append(first, 99)
-		if !sameBits(before, bitsOf(whole)) || !sameBits(kept, bitsOf(second)) {
+		if !slices.Equal(before, bitsOf(whole)) || !slices.Equal(kept, bitsOf(second)) {
 			t.Fatalf("an answer of %d shares its memory", len(first)-1)
 		}
 	}
@@ -82,7 +71,7 @@ func TestSlotsAreNewMemory(t *testing.T) {
 	for i := range second {
 		second[i] = -1
 	}
-	if !sameList(first, kept) || !sameList(impl.Slots(s, 30), kept) {
+	if !slices.Equal(first, kept) || !slices.Equal(impl.Slots(s, 30), kept) {
 		t.Error("answers share their memory")
 	}
 }

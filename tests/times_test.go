@@ -2,6 +2,7 @@ package tests
 
 import (
 	"math"
+	"slices"
 	"strings"
 	"testing"
 	"time"
@@ -362,24 +363,12 @@ func TestSlotsByLooking(t *testing.T) {
 						want = append(want, x)
 					}
 				}
-				if got := impl.Slots(impl.Span{From: from, To: to}, step); !sameList(got, want) {
+				if got := impl.Slots(impl.Span{From: from, To: to}, step); !slices.Equal(got, want) {
 					t.Fatalf("Slots(%d .. %d, %d) = %v, not %v", from, to, step, got, want)
 				}
 			}
 		}
 	}
-}
-
-func sameList(a, b []int64) bool {
-	if len(a) != len(b) {
-		return false
-	}
-	for i := range a {
-		if a[i] != b[i] {
-			return false
-		}
-	}
-	return true
 }
 
 func TestSlotsEdges(t *testing.T) {
