@@ -173,3 +173,7 @@ func joined(pieces ...string) string {
 func within(n int64, low int64, high int64) bool {
 	return low <= n && n <= high
 }
+
+func modulo(n int64, by int64) int64 {
+	return (n%by + by) % by
+}

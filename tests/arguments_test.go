@@ -3,14 +3,17 @@ package tests
 import (
 	"math"
 	"slices"
+	"strconv"
+	"strings"
+	"sync"
 	"testing"
 
 	"loop.example/g00051/impl"
 )
 
-// spare is a list with room behind it, in which something stands.
-func spare(list []float64) (within []float64, whole []float64) {
-	whole = append(append([]float64{}, list...), 7, none, below0, -7)
+// roomy is a list with room behind it, in which something stands.
+func roomy[T any](list []T, behind ...T) (within []T, whole []T) {
+	whole = append(append([]T{}, list...), behind...)
 	return whole[:len(list)], whole
 }
 
@@ -28,7 +31,7 @@ func lists() [][]float64 {
 
 func TestListsStayAsTheyWere(t *testing.T) {
 	for _, list := range lists() {
-		given, whole := spare(list)
+		given, whole := roomy(list, 7, none, below0, -7)
 		before := bitsOf(whole)
 		sum, count := impl.Sum(given)
 		mean := impl.Mean(given)
@@ -49,7 +52,7 @@ func TestListsStayAsTheyWere(t *testing.T) {
 
 func TestOrderIsNewMemory(t *testing.T) {
 	for _, list := range lists() {
-		given, whole := spare(list)
+		given, whole := roomy(list, 7, none, below0, -7)
 		before := bitsOf(whole)
 		first, second := impl.Order(given), impl.Order(given)
 		kept := bitsOf(second)
@@ -74,6 +77,101 @@ func TestSlotsAreNewMemory(t *testing.T) {
 	if !slices.Equal(first, kept) || !slices.Equal(impl.Slots(s, 30), kept) {
 		t.Error("answers share their memory")
 	}
+}
+
+func TestWindsStayAsTheyWere(t *testing.T) {
+	for _, list := range [][]impl.Wind{nil, {}, {{Dir: 9, Speed: 2}}, wrongWinds()[:10], someWinds(50, 3), someWinds(impl.MaxList, 4), someWinds(impl.MaxList+1, 4)} {
+		given, whole := roomy(list, impl.Wind{Dir: 3, Speed: 1}, impl.Wind{Dir: 5, Speed: 2})
+		before := slices.Clone(whole)
+		first := impl.MeanWind(given)
+		if !slices.Equal(before, whole) {
+			t.Fatalf("a list of %d winds was written into", len(list))
+		}
+		if !samePair(first, impl.MeanWind(slices.Clip(slices.Clone(list)))) {
+			t.Fatalf("a list of %d winds: the room behind it shows", len(list))
+		}
+	}
+}
+
+func TestBytesStayAsTheyWere(t *testing.T) {
+	full, over := longTexts()
+	for _, text := range append(someTexts(100), full, over) {
+		given, whole := roomy([]byte(text), 0xA9, 'x', 0xFF, 0x80)
+		before := string(whole)
+		cleaned := impl.Clean(given)
+		kept := strings.Clone(cleaned)
+		if string(whole) != before {
+			t.Fatalf("%.40q was written into", text)
+		}
+		for i := range whole {
+			whole[i] = '#'
+		}
+		if cleaned != kept || cleaned != impl.Clean([]byte(text)) {
+			t.Fatalf("%.40q: the answer shares its memory", text)
+		}
+	}
+}
+
+func TestLinesAreNewMemory(t *testing.T) {
+	text := "wind from the abcdefghijkl and more of it"
+	first := impl.Fold(text, 9)
+	kept := slices.Clone(first)
+	second := impl.Fold(text, 9)
+	for i := range second {
+		second[i] = "#"
+	}
+	if !slices.Equal(first, kept) || !slices.Equal(impl.Fold(text, 9), kept) {
+		t.Error("answers share their memory")
+	}
+}
+
+// airAnswers has all that chapter 3 answers to these numbers.
+func airAnswers(x, y float64, n, m int64) [9]uint64 {
+	var a [9]uint64
+	c, _ := impl.Convert(x, n, m)
+	p := impl.MulPair(impl.AddPair(impl.Pair{Re: x, Im: y}, impl.Turn(n)), impl.ConjPair(impl.Pair{Re: y, Im: 1}))
+	w := impl.WindPair(impl.Wind{Dir: n, Speed: y})
+	for i, f := range []float64{c, impl.Vapour(x), impl.Humidity(x, y), impl.DewOf(x, y), p.Re, p.Im, w.Re, w.Im, impl.MeanWind(someWinds(int(n), dice(m))).Re} {
+		a[i] = math.Float64bits(f)
+	}
+	return a
+}
+
+// textAnswers has all that chapter 4 answers to this text.
+func textAnswers(text string, width int64) [6]string {
+	h, code := impl.ReadHeading(text)
+	line, ok := impl.HeadingText(h)
+	says, number := impl.MarkOf(text)
+	return [6]string{impl.Clean([]byte(text)), impl.Upper(text), strings.Join(impl.Fold(text, width), "\n"), h.Kind + h.Mark + strconv.FormatInt(code, 10), line + strconv.FormatBool(ok), strconv.FormatInt(says*1000+number, 10)}
+}
+
+func TestSameAirSameTexts(t *testing.T) {
+	odd := append(oddNumbers(), 20, 9.5, -50, 50, 100)
+	texts := append(someTexts(200), "SMDL01 AMMC 150600 CCB", "SMDL01 AMMC 150600", "PBA", "CCX")
+	type row struct {
+		air   [9]uint64
+		texts [6]string
+	}
+	ask := func(i int) row {
+		d := dice(i)
+		x, y := odd[d.below(int64(len(odd)))], odd[d.below(int64(len(odd)))]
+		return row{airAnswers(x, y, d.below(40), d.below(40)), textAnswers(texts[i%len(texts)], d.below(30))}
+	}
+	var first []row
+	for i := range 1500 {
+		first = append(first, ask(i))
+	}
+	var all sync.WaitGroup
+	for range 4 {
+		all.Go(func() {
+			for i := range first {
+				if ask(i) != first[i] {
+					t.Errorf("the answers of round %d changed", i)
+				}
+			}
+		})
+	}
+	all.Wait()
 }
 
 // answersOf has all that chapters 1 and 2 answer to these numbers, as texts and numbers that can be compared.
