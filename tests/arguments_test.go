@@ -1,6 +1,7 @@
 package tests
 
 import (
+	"fmt"
 	"math"
 	"slices"
 	"strconv"
@@ -166,6 +167,116 @@ func TestSameAirSameTexts(t *testing.T) {
 		all.Go(func() {
 			for i := range first {
 				if ask(i) != first[i] {
+					t.Errorf("the answers of round %d changed", i)
+				}
+			}
+		})
+	}
+	all.Wait()
+}
+
+// levelBits holds levels by all their bits, so that a missing one is like itself.
+func levelBits(levels []impl.Level) [][2]uint64 {
+	bits := make([][2]uint64, len(levels))
+	for i, l := range levels {
+		bits[i] = [2]uint64{uint64(l.Press), math.Float64bits(l.Temp)}
+	}
+	return bits
+}
+
+func someAscents() [][]impl.Level {
+	list := [][]impl.Level{nil, {}, zigzag(), evenAscent(impl.MaxLevels + 1)}
+	for _, levels := range rightAscents() {
+		list = append(list, levels)
+	}
+	for _, levels := range wrongAscents() {
+		list = append(list, levels)
+	}
+	d := dice(71)
+	for range 100 {
+		list = append(list, rolledAscent(&d))
+	}
+	return list
+}
+
+// ascentAnswers has all that chapter 6 answers to these levels.
+func ascentAnswers(levels []impl.Level) string {
+	at, lapse := impl.LapseMost(levels)
+	answers := []any{impl.AscentOk(levels), impl.Signif(levels, 0), impl.Signif(levels, 1.5), impl.Inversions(levels), at, math.Float64bits(lapse)}
+	for _, press := range []int64{0, 1, 6000, 9950, 10000, 11999} {
+		answers = append(answers, impl.Known(impl.Rebuild(levels, press)), impl.Told(impl.Rebuild(levels, press), 6))
+	}
+	if len(levels) > 1 {
+		answers = append(answers, impl.Told(impl.Between(levels[0], levels[1], levels[0].Press/2+levels[1].Press/2), 6))
+	}
+	return fmt.Sprint(answers...)
+}
+
+func TestLevelsStayAsTheyWere(t *testing.T) {
+	for _, levels := range someAscents() {
+		given, whole := roomy(levels, impl.Level{Press: 3, Temp: 1}, impl.Level{Press: 2, Temp: none}, impl.Level{Press: 1, Temp: below0})
+		before := levelBits(whole)
+		answers := ascentAnswers(given)
+		if !slices.Equal(before, levelBits(whole)) {
+			t.Fatalf("%d levels were written into", len(levels))
+		}
+		if answers != ascentAnswers(slices.Clip(slices.Clone(levels))) {
+			t.Fatalf("%d levels: the room behind them shows", len(levels))
+		}
+	}
+}
+
+func TestReportsAndAscentsAreNewMemory(t *testing.T) {
+	const text = "10384 1O2I5 2x032 3//// 9 42705 30132="
+	levels := warmths(20, 15, 18, 5, 0, 3, 4)
+	_, faults, _ := impl.ReadObs(text)
+	places, runs := impl.Signif(levels, 1), impl.Inversions(levels)
+	keptFaults, keptPlaces, keptRuns := slices.Clone(faults), slices.Clone(places), slices.Clone(runs)
+	if len(faults) == 0 || len(places) == 0 || len(runs) == 0 {
+		t.Fatal("nothing to hold against", faults, places, runs)
+	}
+	_, otherFaults, _ := impl.ReadObs(text)
+	otherPlaces, otherRuns := impl.Signif(levels, 1), impl.Inversions(levels)
+	for i := range otherFaults {
+		otherFaults[i] = impl.Fault{At: -9, Code: -9}
+	}
+	for i := range otherPlaces {
+		otherPlaces[i] = -9
+	}
+	for i := range otherRuns {
+		otherRuns[i] = impl.Span{From: -9, To: -9}
+	}
+	_, again, _ := impl.ReadObs(text)
+	if !slices.Equal(faults, keptFaults) || !slices.Equal(again, keptFaults) {
+		t.Error("faults share their memory")
+	}
+	if !slices.Equal(places, keptPlaces) || !slices.Equal(impl.Signif(levels, 1), keptPlaces) {
+		t.Error("places share their memory")
+	}
+	if !slices.Equal(runs, keptRuns) || !slices.Equal(impl.Inversions(levels), keptRuns) {
+		t.Error("runs share their memory")
+	}
+}
+
+// reportAnswers has all that chapter 5 answers to this text.
+func reportAnswers(text string) string {
+	o, faults, code := impl.ReadObs(text)
+	return fmt.Sprint(o, faults, code, impl.ObsOk(o), impl.ObsText(o), impl.Repair(text))
+}
+
+func TestSameReportsSameAscents(t *testing.T) {
+	d := dice(72)
+	ascents := someAscents()
+	var texts, first []string
+	for i := range 800 {
+		texts = append(texts, rolledText(&d))
+		first = append(first, reportAnswers(texts[i])+ascentAnswers(ascents[i%len(ascents)]))
+	}
+	var all sync.WaitGroup
+	for range 4 {
+		all.Go(func() {
+			for i := range first {
+				if reportAnswers(texts[i])+ascentAnswers(ascents[i%len(ascents)]) != first[i] {
 					t.Errorf("the answers of round %d changed", i)
 				}
 			}
