@@ -432,6 +432,22 @@ func TestMeanWind(t *testing.T) {
 	}
 }
 
+// The mean of one wind is that wind, whatever way its turn was found.
+func TestMeanOfOneWind(t *testing.T) {
+	for dir := int64(0); dir <= 36; dir++ {
+		speed := float64(dir) / 3
+		w := impl.Wind{Dir: dir, Speed: speed}
+		turn := impl.Turn(dir)
+		want := impl.Pair{Re: 0 - float64(speed*turn.Im), Im: 0 - float64(speed*turn.Re)}
+		if p := impl.WindPair(w); !samePair(p, want) {
+			t.Errorf("WindPair(%v) = %v, not %v", w, p, want)
+		}
+		if p := impl.MeanWind([]impl.Wind{w}); p != want {
+			t.Errorf("MeanWind of %v = %v, not %v", w, p, want)
+		}
+	}
+}
+
 func TestMeanWindOfNone(t *testing.T) {
 	if p := impl.MeanWind(nil); !isNone(p) {
 		t.Error(p)
