@@ -126,6 +126,26 @@ func TestLinesAreNewMemory(t *testing.T) {
 	}
 }
 
+// askedTogether asks each round by itself, and then all of them again from several goroutines at once.
+func askedTogether[T comparable](t *testing.T, rounds int, ask func(i int) T) {
+	t.Helper()
+	var first []T
+	for i := range rounds {
+		first = append(first, ask(i))
+	}
+	var all sync.WaitGroup
+	for range 4 {
+		all.Go(func() {
+			for i := range first {
+				if ask(i) != first[i] {
+					t.Errorf("the answers of round %d changed", i)
+				}
+			}
+		})
+	}
+	all.Wait()
+}
+
 // airAnswers has all that chapter 3 answers to these numbers.
 func airAnswers(x, y float64, n, m int64) [9]uint64 {
 	var a [9]uint64
@@ -158,21 +178,7 @@ func TestSameAirSameTexts(t *testing.T) {
 		x, y := odd[d.below(int64(len(odd)))], odd[d.below(int64(len(odd)))]
 		return row{airAnswers(x, y, d.below(40), d.below(40)), textAnswers(texts[i%len(texts)], d.below(30))}
 	}
-	var first []row
-	for i := range 1500 {
-		first = append(first, ask(i))
-	}
-	var all sync.WaitGroup
-	for range 4 {
-		all.Go(func() {
-			for i := range first {
-				if ask(i) != first[i] {
-					t.Errorf("the answers of round %d changed", i)
-				}
-			}
-		})
-	}
-	all.Wait()
+	askedTogether(t, 1500, ask)
 }
 
 // levelBits holds levels by all their bits, so that a missing one is like itself.
@@ -267,22 +273,210 @@ func reportAnswers(text string) string {
 func TestSameReportsSameAscents(t *testing.T) {
 	d := dice(72)
 	ascents := someAscents()
-	var texts, first []string
-	for i := range 800 {
+	var texts []string
+	for range 800 {
 		texts = append(texts, rolledText(&d))
-		first = append(first, reportAnswers(texts[i])+ascentAnswers(ascents[i%len(ascents)]))
 	}
-	var all sync.WaitGroup
-	for range 4 {
-		all.Go(func() {
-			for i := range first {
-				if reportAnswers(texts[i])+ascentAnswers(ascents[i%len(ascents)]) != first[i] {
-					t.Errorf("the answers of round %d changed", i)
-				}
+	askedTogether(t, len(texts), func(i int) string {
+		return reportAnswers(texts[i]) + ascentAnswers(ascents[i%len(ascents)])
+	})
+}
+
+// tableCase is a call of chapter 7, with rows that are encoded one by one and together.
+type tableCase struct {
+	table []impl.Elem
+	plan  []int64
+	rows  [][]float64
+	data  []byte
+}
+
+func tableCases() []tableCase {
+	d := dice(901)
+	list := []tableCase{{}, {table: shortTable(), rows: [][]float64{nil}}, {shortTable(), deepPlan(99, 255, 2), [][]float64{{1}, {2}}, []byte{1}}, {longTable(201), []int64{400}, [][]float64{{1}}, []byte{1}}}
+	for i := range 150 {
+		plan := rolledPlan(&d, d.below(8), i%2 == 0)
+		rows := rolledRows(&d, plan)
+		data, _ := impl.EncodeMany(shortTable(), plan, rows)
+		if i%2 == 0 {
+			data, _ = impl.Encode(shortTable(), plan, rows[0])
+		}
+		list = append(list, tableCase{shortTable(), plan, rows, data})
+	}
+	return list
+}
+
+// tableAnswers has all that chapter 7 answers to these arguments.
+func tableAnswers(c tableCase) string {
+	answers := []any{impl.PlanOk(c.table, c.plan)}
+	for _, values := range c.rows {
+		data, code := impl.Encode(c.table, c.plan, values)
+		answers = append(answers, data, code)
+	}
+	values, code := impl.Decode(c.table, c.plan, c.data)
+	many, manyCode := impl.EncodeMany(c.table, c.plan, c.rows)
+	lists, listsCode := impl.DecodeMany(c.table, c.plan, int64(len(c.rows)), c.data)
+	answers = append(answers, bitsOf(values), code, many, manyCode, listsCode)
+	for _, list := range lists {
+		answers = append(answers, bitsOf(list))
+	}
+	return fmt.Sprint(answers...)
+}
+
+func TestTablesStayAsTheyWere(t *testing.T) {
+	for i, c := range tableCases() {
+		table, wholeTable := roomy(c.table, impl.Elem{Code: 99999, Width: 9}, impl.Elem{Code: 3})
+		plan, wholePlan := roomy(c.plan, 101002, 2, 201255)
+		data, wholeData := roomy(c.data, 0, 0xFF, 7)
+		given := tableCase{table: table, plan: plan, data: data}
+		var wholes [][]float64
+		for _, values := range c.rows {
+			row, whole := roomy(values, 3, none, below0)
+			given.rows, wholes = append(given.rows, row), append(wholes, whole)
+		}
+		before := fmt.Sprint(wholeTable, wholePlan, wholeData, given.rows, wholes)
+		answers := tableAnswers(given)
+		if fmt.Sprint(wholeTable, wholePlan, wholeData, given.rows, wholes) != before {
+			t.Fatalf("case %d was written into", i)
+		}
+		if answers != tableAnswers(c) {
+			t.Fatalf("case %d: the room behind it shows", i)
+		}
+	}
+}
+
+func TestRowsAreNewMemory(t *testing.T) {
+	rows := [][]float64{{2.5, 3, none}, {1, 3, none}, {none, 3, 14}}
+	plan := []int64{1, 102001, 2, 2}
+	data, _ := impl.EncodeMany(shortTable(), plan, rows)
+	kept := slices.Clone(data)
+	lists, _ := impl.DecodeMany(shortTable(), plan, 3, data)
+	for i := range data {
+		data[i] = 0xAA
+	}
+	for row := range lists {
+		before := fmt.Sprint(lists[(row+1)%3], lists[(row+2)%3])
+		for i := range lists[row] {
+			lists[row][i] = 99
+		}
+		_ = append(lists[row], 98, 97)
+		if fmt.Sprint(lists[(row+1)%3], lists[(row+2)%3]) != before {
+			t.Errorf("row %d shares its memory", row)
+		}
+	}
+	again, code := impl.EncodeMany(shortTable(), plan, rows)
+	if code != 0 || !slices.Equal(again, kept) {
+		t.Error("bytes share their memory", again, code)
+	}
+	if lists, code := impl.DecodeMany(shortTable(), plan, 3, kept); code != 0 || !sameLists(lists, rows) {
+		t.Error("values share their memory", lists, code)
+	}
+	one, _ := impl.Encode(shortTable(), plan, rows[0])
+	values, _ := impl.Decode(shortTable(), plan, one)
+	clear(one)
+	if !sameList(values, rows[0]) {
+		t.Error("what was read shares the bytes' memory", values)
+	}
+}
+
+// gridCase is a call of chapter 8.
+type gridCase struct {
+	values    []float64
+	list      []int64
+	data      []byte
+	bits, dec int64
+}
+
+func gridCases() []gridCase {
+	d := dice(902)
+	cases := []gridCase{{}, {values: []float64{high}, list: []int64{two40 + 1}, data: []byte{0}, bits: 1}, {values: make([]float64, 4097), list: make([]int64, 4097), bits: 1, dec: 1}}
+	for range 150 {
+		dec := d.below(10) - 3
+		list := rolledRun(&d, d.below(40))
+		data, _ := impl.PackRuns(list)
+		cases = append(cases, gridCase{rolledField(&d, dec), list, data, 1 + d.below(24), dec})
+	}
+	return cases
+}
+
+// gridAnswers has all that chapter 8 answers to these arguments.
+func gridAnswers(c gridCase) string {
+	p, code := impl.Pack(c.values, c.bits, c.dec)
+	values, ok := impl.Unpack(p)
+	answers := []any{p, code, bitsOf(values), ok}
+	data, ok := impl.PackRuns(c.list)
+	answers = append(answers, data, ok)
+	list, ok := impl.ReadRuns(c.data)
+	answers = append(answers, list, ok)
+	for steps := range int64(14) {
+		packed, ok := impl.Wave(c.list, steps)
+		list, right := impl.Unwave(c.list, steps)
+		answers = append(answers, packed, ok, list, right)
+	}
+	return fmt.Sprint(answers...)
+}
+
+func TestGridsStayAsTheyWere(t *testing.T) {
+	for i, c := range gridCases() {
+		values, wholeValues := roomy(c.values, 3, none, below0)
+		list, wholeList := roomy(c.list, 1<<50, -1, 7)
+		data, wholeData := roomy(c.data, 0, 0xFF, 7)
+		before := fmt.Sprint(bitsOf(wholeValues), wholeList, wholeData)
+		answers := gridAnswers(gridCase{values, list, data, c.bits, c.dec})
+		if fmt.Sprint(bitsOf(wholeValues), wholeList, wholeData) != before {
+			t.Fatalf("case %d was written into", i)
+		}
+		if answers != gridAnswers(c) {
+			t.Fatalf("case %d: the room behind it shows", i)
+		}
+		p, _ := impl.Pack(c.values, c.bits, c.dec)
+		there, wholeThere := roomy(p.There, 1, 0, 2)
+		codes, wholeCodes := roomy(p.Codes, 1, -1)
+		given := p
+		given.There, given.Codes = there, codes
+		before = fmt.Sprint(wholeThere, wholeCodes)
+		got, ok := impl.Unpack(given)
+		want, right := impl.Unpack(p)
+		if fmt.Sprint(wholeThere, wholeCodes) != before || ok != right || !sameList(got, want) {
+			t.Fatalf("case %d: what was packed changed, or the room behind it shows", i)
+		}
+	}
+}
+
+func TestGridsAreNewMemory(t *testing.T) {
+	for _, list := range [][]int64{{5}, {5, 6}, {5, 6, 8, 1, 0}} {
+		for steps := int64(1); steps <= 12; steps++ {
+			given := slices.Clone(list)
+			packed, _ := impl.Wave(given, steps)
+			back, _ := impl.Unwave(given, steps)
+			kept, keptBack := slices.Clone(packed), slices.Clone(back)
+			for i := range given {
+				given[i] = 99
 			}
-		})
+			if !slices.Equal(packed, kept) || !slices.Equal(back, keptBack) {
+				t.Errorf("the waves of %v in %d steps share its memory", list, steps)
+			}
+		}
 	}
-	all.Wait()
+	p, _ := impl.Pack([]float64{1, none, 4}, 8, 0)
+	values, _ := impl.Unpack(p)
+	data, _ := impl.PackRuns([]int64{1, 2, 300})
+	list, _ := impl.ReadRuns(data)
+	clear(p.There)
+	clear(p.Codes)
+	clear(data)
+	if !sameList(values, []float64{1, none, 4}) || !slices.Equal(list, []int64{1, 2, 300}) {
+		t.Error("answers share their memory", values, list)
+	}
+	if again, _ := impl.Pack([]float64{1, none, 4}, 8, 0); !slices.Equal(again.There, []byte{1, 0, 1}) || !slices.Equal(again.Codes, []int64{0, 3}) {
+		t.Error("answers share their memory", again)
+	}
+}
+
+func TestSameTablesSameGrids(t *testing.T) {
+	tables, grids := tableCases(), gridCases()
+	askedTogether(t, len(tables), func(i int) string {
+		return tableAnswers(tables[i]) + gridAnswers(grids[i%len(grids)])
+	})
 }
 
 // answersOf has all that chapters 1 and 2 answer to these numbers, as texts and numbers that can be compared.
