@@ -479,6 +479,195 @@ func TestSameTablesSameGrids(t *testing.T) {
 	})
 }
 
+// roomyCentre is a centre whose lists have room behind them, in which something stands, and a text of all of it.
+func roomyCentre(c impl.Centre) (given impl.Centre, told func() string) {
+	given = c
+	routes, wholeRoutes := roomy(c.Routes, routeOf("QQ", 9), routeOf("QR", 9))
+	seen, wholeSeen := roomy(c.Seen, bulletinOf("QQ", "", "behind"), impl.Bulletin{})
+	queues, wholeQueues := roomy(c.Queues, impl.Queue{Sub: 1001, Done: 3}, impl.Queue{Lost: 4})
+	var wholeItems [][]impl.Item
+	for i := range queues {
+		items, whole := roomy(c.Queues[i].Items, itemOf(77, 2, headOf("QQ", ""), 1, 5), itemOf(78, 3, headOf("QR", ""), 0, 0))
+		queues[i].Items, wholeItems = items, append(wholeItems, whole)
+	}
+	given.Routes, given.Seen, given.Queues = routes, seen, queues
+	return given, func() string {
+		return fmt.Sprint(wholeRoutes, wholeSeen, wholeQueues, wholeItems)
+	}
+}
+
+func centreCases() []impl.Centre {
+	list := []impl.Centre{{}, busyCentre()}
+	rightChanges().each(func(name string, c impl.Centre) { list = append(list, c) })
+	wrongChanges().each(func(name string, c impl.Centre) { list = append(list, c) })
+	late := busyCentre()
+	late.Now, late.Queues[0].Items[1].Tries = 110, 4
+	return append(list, late, impl.Pass(busyCentre(), 10))
+}
+
+func bulletinCases() []impl.Bulletin {
+	return []impl.Bulletin{{}, bulletinOf("SM", "CCC", "new"), bulletinOf("WW", "AAA", "new"), bulletinOf("QQ", "", "for nobody"), bulletinOf("SM", "", "one"), bulletinOf("SM", "", "clash"), bulletinOf("SM", "CCA", "late")}
+}
+
+// routingCalls has all that chapter 9 answers of this centre: the centres, and what comes with them.
+func routingCalls(c impl.Centre) ([]impl.Centre, []any) {
+	made, ok := impl.NewCentre(c.Routes)
+	list, rest := []impl.Centre{made, impl.Pass(c, -1), impl.Pass(c, 5)}, []any{ok}
+	for _, b := range bulletinCases() {
+		next, code := impl.Accept(c, b)
+		list, rest = append(list, next), append(rest, code)
+	}
+	for _, sub := range []int64{0, 2, 7, 1000} {
+		sent, item, ok := impl.SendNext(c, sub)
+		acked, right := impl.Acked(c, sub, 3)
+		list, rest = append(list, sent, acked), append(rest, item, ok, right)
+	}
+	return list, rest
+}
+
+func routingAnswers(c impl.Centre) string {
+	list, rest := routingCalls(c)
+	return fmt.Sprint(list, rest)
+}
+
+func TestCentresStayAsTheyWere(t *testing.T) {
+	for i, c := range centreCases() {
+		given, told := roomyCentre(c)
+		before := told()
+		answers := routingAnswers(given)
+		if told() != before {
+			t.Fatalf("centre %d was written into", i)
+		}
+		if answers != routingAnswers(copyOf(c)) {
+			t.Fatalf("centre %d: the room behind it shows", i)
+		}
+	}
+}
+
+// scribble writes over all that a centre holds, and into the room behind it.
+func scribble(c impl.Centre) {
+	for i := range c.Queues {
+		items := c.Queues[i].Items
+		for k := range items[:cap(items)] {
+			items[:cap(items)][k] = itemOf(-9, -9, headOf("##", ""), -9, -9)
+		}
+	}
+	for i := range c.Queues[:cap(c.Queues)] {
+		c.Queues[:cap(c.Queues)][i] = impl.Queue{Sub: -9}
+	}
+	for i := range c.Routes[:cap(c.Routes)] {
+		c.Routes[:cap(c.Routes)][i] = routeOf("##", -9)
+	}
+	for i := range c.Seen[:cap(c.Seen)] {
+		c.Seen[:cap(c.Seen)][i] = bulletinOf("##", "", "#")
+	}
+}
+
+func TestCentresAreNewMemory(t *testing.T) {
+	for i, c := range centreCases() {
+		given, told := roomyCentre(c)
+		before := told()
+		all, _ := routingCalls(given)
+		for k := range all {
+			list, _ := routingCalls(given)
+			kept := fmt.Sprint(list[:k], list[k+1:])
+			scribble(list[k])
+			if told() != before {
+				t.Fatalf("centre %d: answer %d shares its memory", i, k)
+			}
+			if fmt.Sprint(list[:k], list[k+1:]) != kept {
+				t.Fatalf("centre %d: answer %d shares the memory of another", i, k)
+			}
+		}
+	}
+}
+
+// No two lists of one answer share memory, nor does one grow into another.
+func TestQueuesAreApart(t *testing.T) {
+	for i, c := range centreCases() {
+		list, _ := routingCalls(c)
+		for k, next := range list {
+			for n := range next.Queues {
+				var rest []any
+				for m, q := range next.Queues {
+					if m != n {
+						rest = append(rest, q)
+					}
+				}
+				kept := fmt.Sprint(rest...)
+				items := next.Queues[n].Items
+				for m := range items[:cap(items)] {
+					items[:cap(items)][m].Seq = -9
+				}
+				if fmt.Sprint(rest...) != kept {
+					t.Fatalf("centre %d, answer %d: queue %d shares its memory", i, k, n)
+				}
+			}
+		}
+	}
+}
+
+// qualityCase is a call of chapter 10.
+type qualityCase struct {
+	rules  impl.Rules
+	places []impl.Place
+	reads  []impl.Read
+	judged []impl.Judged
+}
+
+func qualityCases() []qualityCase {
+	d := dice(903)
+	cases := []qualityCase{{}, {mildRules(), rowOf(101), manyReads(1), nil}, {mildRules(), rowOf(1), manyReads(301), times(301, judgedOf(1, 2, 3, 0))}, {mildRules(), rowOf(1), manyReads(300), times(300, judgedOf(1, 2, 3, 0))}}
+	for range 150 {
+		rules, places := rolledRules(&d), rolledPlaces(&d)
+		reads := rolledReads(&d, places, d.below(40))
+		judged, _ := impl.Judge(rules, places, reads)
+		cases = append(cases, qualityCase{rules, places, reads, judged})
+	}
+	return cases
+}
+
+// qualityAnswers has all that chapter 10 answers to these arguments.
+func qualityAnswers(c qualityCase) string {
+	judged, ok := impl.Judge(c.rules, c.places, c.reads)
+	bias, count := impl.Bias(c.reads, c.reads[len(c.reads)/2:])
+	return fmt.Sprint(judged, ok, impl.Kept(c.judged), math.Float64bits(bias), count)
+}
+
+func TestQualityStaysAsItWas(t *testing.T) {
+	for i, c := range qualityCases() {
+		given := c
+		black, wholeBlack := roomy(c.rules.Black, 1, 2, 3)
+		places, wholePlaces := roomy(c.places, siteOf(1, 2, 3), siteOf(99999, 0, 0))
+		reads, wholeReads := roomy(c.reads, readOf(1, 0, 5), readOf(-1, -1, none))
+		judged, wholeJudged := roomy(c.judged, judgedOf(1, 0, 5, 0), judgedOf(1, 0, below0, 0))
+		given.rules.Black, given.places, given.reads, given.judged = black, places, reads, judged
+		before := fmt.Sprint(wholeBlack, wholePlaces, wholeReads, wholeJudged)
+		answers := qualityAnswers(given)
+		if fmt.Sprint(wholeBlack, wholePlaces, wholeReads, wholeJudged) != before {
+			t.Fatalf("case %d was written into", i)
+		}
+		if answers != qualityAnswers(c) {
+			t.Fatalf("case %d: the room behind it shows", i)
+		}
+		first, _ := impl.Judge(given.rules, places, reads)
+		kept := impl.Kept(judged)
+		told := fmt.Sprint(first, kept)
+		clear(wholeReads)
+		clear(wholeJudged)
+		if fmt.Sprint(first, kept) != told {
+			t.Fatalf("case %d: the answers share their memory", i)
+		}
+	}
+}
+
+func TestSameRoutesSameQuality(t *testing.T) {
+	centres, cases := centreCases(), qualityCases()
+	askedTogether(t, len(cases), func(i int) string {
+		return routingAnswers(centres[i%len(centres)]) + qualityAnswers(cases[i])
+	})
+}
+
 // answersOf has all that chapters 1 and 2 answer to these numbers, as texts and numbers that can be compared.
 func answersOf(x, y float64, n, m int64, text string) [40]any {
 	var a [40]any
