@@ -137,6 +137,7 @@ func rightChanges() changes {
 	return changes{
 		"none":               func(c *impl.Centre) {},
 		"Now 0":              func(c *impl.Centre) { c.Now = 0 },
+		"Now 1":              func(c *impl.Centre) { c.Now = 1 },
 		"Now MaxClock":       func(c *impl.Centre) { c.Now = 1000000000000 },
 		"Next MaxClock":      func(c *impl.Centre) { c.Next = 1000000000000 },
 		"Next of a last Seq": func(c *impl.Centre) { c.Next = 6 },
