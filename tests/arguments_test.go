@@ -668,6 +668,118 @@ func TestSameRoutesSameQuality(t *testing.T) {
 	})
 }
 
+// fieldCase is a call of each function of chapters 11 and 12.
+type fieldCase struct {
+	g                  impl.Grid
+	values             []float64
+	lat, lon           int64
+	edges, amounts, to []int64
+	box                impl.Box
+	level              int64
+	loop               impl.Loop
+}
+
+func fieldCases() []fieldCase {
+	d := dice(1106)
+	cases := []fieldCase{{}, {g: gridOf(2, 2, 0, 0, 1), values: times(3, 1.0), edges: riseFrom(0, 258), to: riseFrom(0, 2), box: boxOf(25, 1), loop: loopOf(0, 0, times(2001, int64(1))...)}}
+	for _, wrong := range wrongLoops() {
+		cases = append(cases, fieldCase{loop: wrong})
+	}
+	for range 150 {
+		g := rolledGrid(&d)
+		c := fieldCase{g: g, values: rolledGridValues(&d, g, 40), lat: g.South + d.below(g.Step*2), lon: g.West + d.below(g.Step*2)}
+		c.edges, c.to = rolledEdges(&d, 2+d.below(9), 20), rolledEdges(&d, 2+d.below(9), 20)
+		c.amounts = rolledAmounts(&d, len(c.edges)-1)
+		c.box = boxOf(1+d.below(7), 1+d.below(7))
+		for range c.box.Rows * c.box.Cols {
+			c.box.Cells = append(c.box.Cells, d.below(3))
+		}
+		c.level = d.below(3)
+		c.loop = loopOf(d.below(9), d.below(9))
+		for range d.below(20) {
+			c.loop.Dirs = append(c.loop.Dirs, d.below(4))
+		}
+		cases = append(cases, c)
+	}
+	return cases
+}
+
+// fieldAnswers has all that chapters 11 and 12 answer to these arguments.
+func fieldAnswers(c fieldCase) string {
+	moved, ok := impl.Remap(c.edges, c.amounts, c.to)
+	var grads []float64
+	for _, p := range impl.Grads(c.g, c.values) {
+		grads = append(grads, p.Re, p.Im)
+	}
+	return fmt.Sprint(impl.GridOk(c.g), impl.At(c.g, c.values, c.lat, c.lon), bitsOf(impl.Smooth(c.g, c.values)), bitsOf(grads), moved, ok) +
+		fmt.Sprint(impl.BoxOk(c.box), impl.Contours(c.box, c.level), impl.Area(c.loop), impl.Winds(c.loop, c.lat%9, c.lon%9), impl.Closed(c.loop))
+}
+
+func TestFieldsStayAsTheyWere(t *testing.T) {
+	for i, c := range fieldCases() {
+		given := c
+		values, wholeValues := roomy(c.values, 7, none, below0)
+		edges, wholeEdges := roomy(c.edges, 1000, 1001)
+		amounts, wholeAmounts := roomy(c.amounts, 3, 4)
+		to, wholeTo := roomy(c.to, 1000, 1001)
+		cells, wholeCells := roomy(c.box.Cells, 5, -5)
+		dirs, wholeDirs := roomy(c.loop.Dirs, 0, 9)
+		given.values, given.edges, given.amounts, given.to, given.box.Cells, given.loop.Dirs = values, edges, amounts, to, cells, dirs
+		told := func() string {
+			return fmt.Sprint(bitsOf(wholeValues), wholeEdges, wholeAmounts, wholeTo, wholeCells, wholeDirs)
+		}
+		before := told()
+		answers := fieldAnswers(given)
+		if told() != before {
+			t.Fatalf("case %d was written into", i)
+		}
+		if answers != fieldAnswers(c) {
+			t.Fatalf("case %d: the room behind it shows", i)
+		}
+	}
+}
+
+func TestFieldsAreNewMemory(t *testing.T) {
+	for i, c := range fieldCases() {
+		before := fieldAnswers(c)
+		smoothed, grads := impl.Smooth(c.g, c.values), impl.Grads(c.g, c.values)
+		moved, _ := impl.Remap(c.edges, c.amounts, c.to)
+		kept, _ := impl.Remap(c.edges, c.amounts, c.to)
+		told := fmt.Sprint(kept)
+		clear(smoothed[:cap(smoothed)])
+		clear(grads[:cap(grads)])
+		clear(moved[:cap(moved)])
+		if fieldAnswers(c) != before || fmt.Sprint(kept) != told {
+			t.Fatalf("case %d: the answers share their memory", i)
+		}
+	}
+}
+
+// No two loops of one answer share memory, nor does one grow into another.
+func TestLoopsAreApart(t *testing.T) {
+	for i, c := range fieldCases() {
+		cells := slices.Clone(c.box.Cells)
+		loops := impl.Contours(c.box, c.level)
+		for k, l := range loops {
+			rest := fmt.Sprint(loops[:k], loops[k+1:])
+			for n := range l.Dirs[:cap(l.Dirs)] {
+				l.Dirs[:cap(l.Dirs)][n] = -9
+			}
+			if fmt.Sprint(loops[:k], loops[k+1:]) != rest {
+				t.Fatalf("case %d: loop %d shares its memory", i, k)
+			}
+		}
+		if !slices.Equal(cells, c.box.Cells) {
+			t.Fatalf("case %d: the loops share the box's memory", i)
+		}
+	}
+}
+
+func TestSameFieldsSameContours(t *testing.T) {
+	cases := fieldCases()
+	askedTogether(t, len(cases), func(i int) string { return fieldAnswers(cases[i]) })
+}
+
 // answersOf has all that chapters 1 and 2 answer to these numbers, as texts and numbers that can be compared.
 func answersOf(x, y float64, n, m int64, text string) [40]any {
 	var a [40]any
