@@ -780,6 +780,145 @@ func TestSameFieldsSameContours(t *testing.T) {
 	askedTogether(t, len(cases), func(i int) string { return fieldAnswers(cases[i]) })
 }
 
+// waterCase is a call of each function of chapters 13 and 14.
+type waterCase struct {
+	box, later       impl.Box
+	level, cell      int64
+	next, rain, most []int64
+	book             impl.Book
+	frames           [][]int64
+	tracks           []impl.Track
+}
+
+func waterCases() []waterCase {
+	d := dice(1305)
+	cases := []waterCase{{}, {book: bookOf(1, 1), frames: [][]int64{nil, nil}}, {box: boxOf(25, 1), later: boxOf(1, 1, 1), next: times(577, int64(-1)), rain: times(577, int64(0)), frames: times(21, []int64{1}), tracks: times(1201, trackOf(1, 0, 0, 0, 1))}}
+	for _, next := range wrongNexts() {
+		cases = append(cases, waterCase{next: next, book: impl.Book{Water: times(len(next), int64(0))}, rain: times(len(next), int64(0)), most: next})
+	}
+	for range 200 {
+		c := waterCase{box: rolledHeights(&d, 8), level: d.below(4) - 1, frames: rolledFrames(&d)}
+		c.later = boxOf(c.box.Rows, c.box.Cols, shuffled(&d, c.box.Cells)...)
+		c.next = heightsNext(c.box)
+		c.cell = d.below(int64(len(c.next)))
+		for range c.next {
+			c.book.Water = append(c.book.Water, d.below(9))
+			c.rain, c.most = append(c.rain, d.below(9)), append(c.most, d.below(9))
+		}
+		c.book.Out = d.below(9)
+		c.book.Rained = totalOf(c.book.Water) + c.book.Out + d.below(8)/7
+		c.tracks, _ = impl.Tracks(c.frames)
+		cases = append(cases, c)
+	}
+	return cases
+}
+
+// waterAnswers has all that chapters 13 and 14 answer to these arguments.
+func waterAnswers(c waterCase) string {
+	heights, next := impl.Drain(c.box)
+	counts, ok := impl.Catch(c.next)
+	book, flowed := impl.FlowStep(c.next, c.book, c.rain)
+	tracks, right := impl.Tracks(c.frames)
+	i, j, moved := impl.Moved(c.box, c.level, c.later)
+	return fmt.Sprint(heights, next, counts, ok, impl.OutletOf(c.next, c.cell), book, flowed, impl.Flood(c.book, c.most)) +
+		fmt.Sprint(impl.Cells(c.box, c.level), tracks, right, impl.Longest(c.tracks), i, j, moved)
+}
+
+// roomyWaters is a case whose lists have room behind them, in which something stands, and a text of all of it.
+func roomyWaters(c waterCase) (given waterCase, told func() string) {
+	given = c
+	var wholes [6][]int64
+	given.box.Cells, wholes[0] = roomy(c.box.Cells, 5, -5)
+	given.later.Cells, wholes[1] = roomy(c.later.Cells, 5, -5)
+	given.next, wholes[2] = roomy(c.next, -1, 0, 1)
+	given.rain, wholes[3] = roomy(c.rain, 3, 4)
+	given.most, wholes[4] = roomy(c.most, -9, 0)
+	given.book.Water, wholes[5] = roomy(c.book.Water, 7, 8)
+	var wholeCells [][]int64
+	frames, wholeFrames := roomy(c.frames, []int64{1}, []int64{-1})
+	for k := range frames {
+		places, whole := roomy(frames[k], 1, 2, 3)
+		frames[k], wholeCells = places, append(wholeCells, whole)
+	}
+	tracks, wholeTracks := roomy(c.tracks, trackOf(9, 9, 9, 9, 9, 9, 9, 9, 9, 9, 9, 9, 9))
+	for k := range tracks {
+		cells, whole := roomy(tracks[k].Cells, 6, 7)
+		tracks[k].Cells, wholeCells = cells, append(wholeCells, whole)
+	}
+	given.frames, given.tracks = frames, tracks
+	return given, func() string { return fmt.Sprint(wholes, wholeFrames, wholeTracks, wholeCells) }
+}
+
+func TestWatersStayAsTheyWere(t *testing.T) {
+	for i, c := range waterCases() {
+		given, told := roomyWaters(c)
+		before := told()
+		answers := waterAnswers(given)
+		if told() != before {
+			t.Fatalf("case %d was written into", i)
+		}
+		if answers != waterAnswers(c) {
+			t.Fatalf("case %d: the room behind it shows", i)
+		}
+	}
+}
+
+// waterLists are the lists that chapters 13 and 14 answer with.
+func waterLists(c waterCase) [][]int64 {
+	heights, next := impl.Drain(c.box)
+	counts, _ := impl.Catch(c.next)
+	book, _ := impl.FlowStep(c.next, c.book, c.rain)
+	list := [][]int64{heights, next, counts, book.Water, impl.Flood(c.book, c.most), impl.Cells(c.box, c.level)}
+	tracks, _ := impl.Tracks(c.frames)
+	for _, tr := range tracks {
+		list = append(list, tr.Cells)
+	}
+	return list
+}
+
+// What is written into an answer, and into the room behind it, shows neither in an argument nor in another list of the answers.
+func TestWatersAreNewMemory(t *testing.T) {
+	for i, c := range waterCases() {
+		given, told := roomyWaters(c)
+		before, answers := told(), waterAnswers(c)
+		list := waterLists(given)
+		for k, l := range list {
+			rest := fmt.Sprint(list[:k], list[k+1:])
+			for n := range l[:cap(l)] {
+				l[:cap(l)][n] = -99
+			}
+			if fmt.Sprint(list[:k], list[k+1:]) != rest {
+				t.Fatalf("case %d: answer %d shares the memory of another", i, k)
+			}
+		}
+		if told() != before || waterAnswers(given) != answers {
+			t.Fatalf("case %d: the answers share its memory", i)
+		}
+	}
+}
+
+// What is written into an argument behind the call shows in no answer.
+func TestWatersAreNotKept(t *testing.T) {
+	for i, c := range waterCases() {
+		given, _ := roomyWaters(c)
+		list := waterLists(given)
+		kept := fmt.Sprint(list)
+		for _, l := range append([][]int64{given.box.Cells, given.later.Cells, given.next, given.rain, given.most, given.book.Water}, given.frames...) {
+			for n := range l[:cap(l)] {
+				l[:cap(l)][n] = -99
+			}
+		}
+		if fmt.Sprint(list) != kept {
+			t.Fatalf("case %d: the answers share its memory", i)
+		}
+	}
+}
+
+func TestSameWatersSameStorms(t *testing.T) {
+	cases := waterCases()
+	askedTogether(t, len(cases), func(i int) string { return waterAnswers(cases[i]) })
+}
+
 // answersOf has all that chapters 1 and 2 answer to these numbers, as texts and numbers that can be compared.
 func answersOf(x, y float64, n, m int64, text string) [40]any {
 	var a [40]any
