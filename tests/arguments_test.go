@@ -919,6 +919,157 @@ func TestSameWatersSameStorms(t *testing.T) {
 	askedTogether(t, len(cases), func(i int) string { return waterAnswers(cases[i]) })
 }
 
+// analysisCase is a call of each function of chapters 15 and 16.
+type analysisCase struct {
+	problem      impl.Problem
+	x            []int64
+	most, keep   int64
+	values, vars []int64
+	a, b         []int64
+	row          []impl.Pair
+}
+
+func analysisCases() []analysisCase {
+	d := dice(1608)
+	cases := []analysisCase{{}, {values: times(6, int64(1)), vars: times(6, int64(1)), a: times(65, int64(0)), b: times(65, int64(0)), row: times(impl.MaxList, impl.Pair{Re: 1}), keep: math.MaxInt64}, {a: []int64{65537}, b: []int64{1}, row: times(impl.MaxList+1, impl.Pair{Re: 1}), keep: math.MinInt64}}
+	for _, p := range wrongProblems() {
+		cases = append(cases, analysisCase{problem: p, x: p.Guess, most: 9, values: p.Guess, vars: p.Trust, a: p.Guess, b: p.Trust})
+	}
+	for range 200 {
+		c := analysisCase{problem: rolledProblem(&d, 500, 5), most: d.below(502), keep: d.below(22) - 2}
+		c.x = rolledPoint(&d, c.problem, 500)
+		for range 1 + d.below(5) {
+			c.values, c.vars = append(c.values, d.below(1000)-500), append(c.vars, 1+d.below(100))
+		}
+		n := residueLengths[d.below(int64(len(residueLengths)))]
+		c.a, c.b = rolledResidues(&d, n), rolledResidues(&d, n)
+		c.row = rolledPairs(&d, waveLengths[d.below(int64(len(waveLengths)))], d.below(9))
+		cases = append(cases, c)
+	}
+	p, x := slowProblem()
+	return append(cases, analysisCase{problem: p, x: x, most: 500})
+}
+
+// analysisLists are the lists that chapters 15 and 16 answer with.
+func analysisLists(c analysisCase) (moves []impl.Move, wholes [][]int64, rows [][]impl.Pair) {
+	moves, _ = impl.Descend(c.problem, c.x, c.most)
+	there, _ := impl.Spectrum(c.a)
+	back, _ := impl.Unspectrum(c.a)
+	mixed, _ := impl.Mixed(c.a, c.b)
+	return moves, [][]int64{there, back, mixed}, [][]impl.Pair{impl.Waves(c.row), impl.Unwaves(c.row), impl.Cut(c.row, c.keep)}
+}
+
+// analysisAnswers has all that chapters 15 and 16 answer to these arguments.
+func analysisAnswers(c analysisCase) string {
+	over, under := impl.Blend(c.values, c.vars)
+	_, descended := impl.Descend(c.problem, c.x, c.most)
+	_, there := impl.Spectrum(c.a)
+	_, back := impl.Unspectrum(c.a)
+	_, mixed := impl.Mixed(c.a, c.b)
+	moves, wholes, rows := analysisLists(c)
+	return fmt.Sprint(impl.ProblemOk(c.problem), impl.Cost(c.problem, c.x), impl.Certified(c.problem, c.x), over, under, descended, there, back, mixed) +
+		fmt.Sprint(impl.Energy(c.row), moves, wholes, rows)
+}
+
+// roomyAnalysis is a case whose lists have room behind them, in which something stands, and a text of all of it.
+func roomyAnalysis(c analysisCase) (given analysisCase, told func() string) {
+	given = c
+	var wholes [7][]int64
+	given.problem.Guess, wholes[0] = roomy(c.problem.Guess, 1, 2)
+	given.problem.Trust, wholes[1] = roomy(c.problem.Trust, 1, 2)
+	given.x, wholes[2] = roomy(c.x, 5, -5)
+	given.values, wholes[3] = roomy(c.values, 3, 4)
+	given.vars, wholes[4] = roomy(c.vars, 3, 4)
+	given.a, wholes[5] = roomy(c.a, 7, 8, -9)
+	given.b, wholes[6] = roomy(c.b, 7, 8, -9)
+	row, wholeRow := roomy(c.row, impl.Pair{Re: 5, Im: 6}, impl.Pair{Re: none, Im: high})
+	rows, wholeRows := roomy(c.problem.Rows, seen(1, 1, 1), seen(2, 2, 2))
+	var wholeFactors [][]int64
+	for k := range rows {
+		factors, whole := roomy(rows[k].H, 1, 2, 3)
+		rows[k].H, wholeFactors = factors, append(wholeFactors, whole)
+	}
+	given.row, given.problem.Rows = row, rows
+	return given, func() string { return fmt.Sprint(wholes, wholeRow, wholeRows, wholeFactors) }
+}
+
+func TestProblemsAndRowsStayAsTheyWere(t *testing.T) {
+	for i, c := range analysisCases() {
+		given, told := roomyAnalysis(c)
+		before := told()
+		answers := analysisAnswers(given)
+		if told() != before {
+			t.Fatalf("case %d was written into", i)
+		}
+		if answers != analysisAnswers(c) {
+			t.Fatalf("case %d: the room behind it shows", i)
+		}
+	}
+}
+
+// What is written into an answer, and into the room behind it, shows neither in an argument nor in another list of the answers nor in a later answer.
+func TestMovesAndWavesAreNewMemory(t *testing.T) {
+	for i, c := range analysisCases() {
+		given, told := roomyAnalysis(c)
+		before, answers := told(), analysisAnswers(c)
+		moves, wholes, rows := analysisLists(given)
+		kept := fmt.Sprint(wholes, rows)
+		overwrite(moves, impl.Move{I: -99})
+		if fmt.Sprint(wholes, rows) != kept {
+			t.Fatalf("case %d: the moves share the memory of another answer", i)
+		}
+		for k, l := range wholes {
+			rest := fmt.Sprint(wholes[:k], wholes[k+1:], rows)
+			overwrite(l, -99)
+			if fmt.Sprint(wholes[:k], wholes[k+1:], rows) != rest {
+				t.Fatalf("case %d: answer %d shares the memory of another", i, k)
+			}
+		}
+		for k, l := range rows {
+			rest := fmt.Sprint(rows[:k], rows[k+1:])
+			overwrite(l, impl.Pair{Re: -99, Im: -99})
+			if fmt.Sprint(rows[:k], rows[k+1:]) != rest {
+				t.Fatalf("case %d: row %d shares the memory of another", i, k)
+			}
+		}
+		if told() != before || analysisAnswers(given) != answers {
+			t.Fatalf("case %d: the answers share its memory", i)
+		}
+	}
+}
+
+// overwrite writes into a list and into the room behind it.
+func overwrite[T any](list []T, with T) {
+	for i := range list[:cap(list)] {
+		list[:cap(list)][i] = with
+	}
+}
+
+// What is written into an argument behind the call shows in no answer.
+func TestProblemsAndRowsAreNotKept(t *testing.T) {
+	for i, c := range analysisCases() {
+		given, _ := roomyAnalysis(c)
+		moves, wholes, rows := analysisLists(given)
+		kept := fmt.Sprint(moves, wholes, rows)
+		for _, l := range [][]int64{given.problem.Guess, given.problem.Trust, given.x, given.a, given.b} {
+			overwrite(l, -99)
+		}
+		for _, r := range given.problem.Rows {
+			overwrite(r.H, -99)
+		}
+		overwrite(given.problem.Rows, impl.Row{})
+		overwrite(given.row, impl.Pair{Re: -99, Im: -99})
+		if fmt.Sprint(moves, wholes, rows) != kept {
+			t.Fatalf("case %d: the answers share its memory", i)
+		}
+	}
+}
+
+func TestSameProblemsSameWaves(t *testing.T) {
+	cases := analysisCases()
+	askedTogether(t, len(cases), func(i int) string { return analysisAnswers(cases[i]) })
+}
+
 // answersOf has all that chapters 1 and 2 answer to these numbers, as texts and numbers that can be compared.
 func answersOf(x, y float64, n, m int64, text string) [40]any {
 	var a [40]any
