@@ -3,11 +3,13 @@ package tests
 import (
 	"fmt"
 	"math"
+	"runtime"
 	"slices"
 	"strconv"
 	"strings"
 	"sync"
 	"testing"
+	"time"
 
 	"loop.example/g00051/impl"
 )
@@ -1068,6 +1070,149 @@ func TestProblemsAndRowsAreNotKept(t *testing.T) {
 func TestSameProblemsSameWaves(t *testing.T) {
 	cases := analysisCases()
 	askedTogether(t, len(cases), func(i int) string { return analysisAnswers(cases[i]) })
+}
+
+// modelCase is a call of each function of chapters 17 and 18.
+type modelCase struct {
+	ring           impl.Ring
+	winds          []int64
+	workers, steps int64
+	soil           impl.Soil
+	temp, rain     int64
+	members        []int64
+	told           []impl.Prob
+	a, b           []int64
+	x              int64
+}
+
+func modelCases() []modelCase {
+	d := dice(1806)
+	cases := []modelCase{{}, {members: times(61, int64(0)), told: times(1001, impl.Prob{}), a: times(9, int64(0)), b: []int64{1}, workers: 1}}
+	for _, r := range wrongRings() {
+		cases = append(cases, modelCase{ring: r, winds: times(len(r.Mass), int64(1)), workers: 2, steps: 3, members: r.Mass, a: r.Mass, b: r.Tracer})
+	}
+	for _, s := range wrongSoils() {
+		cases = append(cases, modelCase{soil: s, temp: 5, rain: 5})
+	}
+	for i := range 200 {
+		c := modelCase{workers: d.below(10), steps: d.below(30) - 1, x: d.below(41) - 20}
+		c.ring, c.winds = rolledRing(&d, 1+i)
+		c.soil, c.temp, c.rain = rolledSoil(&d)
+		c.members = rolledMembers(&d, 1+i%60, 20)
+		c.told = rolledTold(&d, d.below(100))
+		c.a, c.b = rolledMembers(&d, 1+i%8, 20), rolledMembers(&d, 1+i/8%8, 20)
+		cases = append(cases, c)
+	}
+	return cases
+}
+
+// modelLists are the lists that chapters 17 and 18 answer with.
+func modelLists(c modelCase) ([][]int64, []impl.Bin) {
+	one, _ := impl.Advect(c.ring, c.winds, c.workers)
+	many, _ := impl.RunRing(c.ring, c.winds, c.steps)
+	still, _ := impl.RunRing(c.ring, c.winds, 0)
+	return [][]int64{one.Mass, one.Tracer, many.Mass, many.Tracer, still.Mass, still.Tracer}, impl.Reliable(c.told)
+}
+
+// modelAnswers has all that chapters 17 and 18 answer to these arguments.
+func modelAnswers(c modelCase) string {
+	_, one := impl.Advect(c.ring, c.winds, c.workers)
+	_, many := impl.RunRing(c.ring, c.winds, c.steps)
+	mass, tracer := impl.Moment(c.ring)
+	soil, stepped := impl.SoilStep(c.soil, c.temp, c.rain)
+	text := impl.SoilText(c.soil)
+	read, ok := impl.ReadSoil(text)
+	reached, ways := impl.Permuted(c.a, c.b)
+	lists, bins := modelLists(c)
+	return fmt.Sprint(impl.RingOk(c.ring), one, many, mass, tracer, soil, stepped, text, read, ok, lists, bins) +
+		fmt.Sprint(impl.Over(c.members, c.x), impl.Rank(c.members, c.x), impl.Crps(c.members, c.x), impl.Brier(c.told), impl.Table(c.told, c.x), reached, ways)
+}
+
+// roomyModel is a case whose lists have room behind them, in which something stands, and a text of all of it.
+func roomyModel(c modelCase) (given modelCase, told func() string) {
+	given = c
+	var wholes [6][]int64
+	given.ring.Mass, wholes[0] = roomy(c.ring.Mass, 5, -5)
+	given.ring.Tracer, wholes[1] = roomy(c.ring.Tracer, 3, -3)
+	given.winds, wholes[2] = roomy(c.winds, 128, -128)
+	given.members, wholes[3] = roomy(c.members, 1, 2)
+	given.a, wholes[4] = roomy(c.a, 7, 8, 9, 10, 11, 12, 13, 14)
+	given.b, wholes[5] = roomy(c.b, 7, -9)
+	list, wholeTold := roomy(c.told, probOf(50, true), probOf(-1, false))
+	given.told = list
+	return given, func() string { return fmt.Sprint(wholes, wholeTold) }
+}
+
+func TestRingsAndMembersStayAsTheyWere(t *testing.T) {
+	for i, c := range modelCases() {
+		given, told := roomyModel(c)
+		before := told()
+		answers := modelAnswers(given)
+		if told() != before {
+			t.Fatalf("case %d was written into", i)
+		}
+		if answers != modelAnswers(c) {
+			t.Fatalf("case %d: the room behind it shows", i)
+		}
+	}
+}
+
+// What is written into an answer, and into the room behind it, shows neither in an argument nor in another list of the answers nor in a later answer.
+func TestRingsAndBinsAreNewMemory(t *testing.T) {
+	for i, c := range modelCases() {
+		given, told := roomyModel(c)
+		before, answers := told(), modelAnswers(c)
+		lists, bins := modelLists(given)
+		for k, l := range lists {
+			rest := fmt.Sprint(lists[:k], lists[k+1:])
+			overwrite(l, -99)
+			if fmt.Sprint(lists[:k], lists[k+1:]) != rest {
+				t.Fatalf("case %d: answer %d shares the memory of another", i, k)
+			}
+		}
+		overwrite(bins, impl.Bin{Count: -99})
+		if told() != before || modelAnswers(given) != answers {
+			t.Fatalf("case %d: the answers share its memory", i)
+		}
+	}
+}
+
+// What is written into an argument behind the call shows in no answer.
+func TestRingsAndMembersAreNotKept(t *testing.T) {
+	for i, c := range modelCases() {
+		given, _ := roomyModel(c)
+		lists, bins := modelLists(given)
+		kept := fmt.Sprint(lists, bins)
+		for _, l := range [][]int64{given.ring.Mass, given.ring.Tracer, given.winds, given.members, given.a, given.b} {
+			overwrite(l, -99)
+		}
+		overwrite(given.told, probOf(-99, true))
+		if fmt.Sprint(lists, bins) != kept {
+			t.Fatalf("case %d: the answers share its memory", i)
+		}
+	}
+}
+
+func TestSameRingsSameScores(t *testing.T) {
+	cases := modelCases()
+	askedTogether(t, len(cases), func(i int) string { return modelAnswers(cases[i]) })
+}
+
+// All workers have ended when a step answers: no goroutine is left over.
+func TestNoWorkerIsLeft(t *testing.T) {
+	before := runtime.NumGoroutine()
+	r := ringOf(riseFrom(0, 200), times(200, int64(0)))
+	for i := range int64(2000) {
+		impl.Advect(r, times(200, int64(100)), 1+i%8)
+	}
+	// One that has said that it is done may be about to end.
+	for range 5000 {
+		if runtime.NumGoroutine() <= before {
+			return
+		}
+		time.Sleep(time.Millisecond)
+	}
+	t.Error(runtime.NumGoroutine(), "goroutines, where there were", before)
 }
 
 // answersOf has all that chapters 1 and 2 answer to these numbers, as texts and numbers that can be compared.
