@@ -1215,6 +1215,137 @@ func TestNoWorkerIsLeft(t *testing.T) {
 	t.Error(runtime.NumGoroutine(), "goroutines, where there were", before)
 }
 
+// climateCase is a call of each function of chapters 19 and 20.
+type climateCase struct {
+	series              []int64
+	k, num, den         int64
+	base, level         int64
+	years               [][]int64
+	parts               []impl.Constituent
+	hour, hours, turned int64
+	table               []float64
+	speed               int64
+}
+
+func climateCases() []climateCase {
+	d := dice(2009)
+	cases := []climateCase{{}, {table: filled(impl.MaxList+1, 1), hours: impl.MaxList + 1}, {table: filled(impl.MaxList, 1), hours: impl.MaxList, parts: times(40, partOf(3, 1, 2))}}
+	for _, series := range wrongSeries() {
+		cases = append(cases, climateCase{series: series, k: 1, num: 1, den: 2, years: [][]int64{series}, table: filled(35, 1), speed: 3})
+	}
+	for _, parts := range wrongParts() {
+		cases = append(cases, climateCase{parts: parts, hour: 5, hours: 5, turned: 5, years: [][]int64{{1, 2}, {1}}, table: filled(36, 1), speed: 18})
+	}
+	for i, series := range someSeries(2010, 150) {
+		c := climateCase{series: series, k: d.below(20), num: d.below(12), den: d.below(12), base: d.below(9) - 4, level: d.below(9) - 4, years: rolledYears(&d)}
+		c.parts, c.hour, c.hours, c.turned = rolledParts(&d, i%41, d.below(4)), d.below(201)-100, d.below(100), d.below(201)-100
+		c.table, c.speed = rolledTable(&d, d.below(4)), 1+d.below(17)
+		cases = append(cases, c)
+	}
+	return cases
+}
+
+// climateLists are the lists that chapters 19 and 20 answer with.
+func climateLists(c climateCase) ([][]int64, []float64, []impl.Constituent) {
+	stepped, _ := impl.Homogen(c.series)
+	normals, _ := impl.Normals(c.years)
+	return [][]int64{stepped, normals, impl.Highs(c.table)}, impl.HeightTable(c.parts, c.hour, c.hours), impl.Rotate(c.parts, c.turned)
+}
+
+// climateAnswers has all that chapters 19 and 20 answer to these arguments.
+func climateAnswers(c climateCase) string {
+	stat, found := impl.OrderStat(c.series, c.k)
+	share, shared := impl.Share(c.series, c.num, c.den)
+	at, long := impl.Spell(c.series, c.level)
+	k, off := impl.Break(c.series)
+	_, step := impl.Homogen(c.series)
+	_, ok := impl.Normals(c.years)
+	over, under := impl.Returns(c.series, c.level)
+	lists, table, rotated := climateLists(c)
+	return fmt.Sprint(stat, found, share, shared, impl.Degrees(c.series, c.base), at, long, k, off, step, ok, over, under) +
+		fmt.Sprint(lists, table, rotated, impl.Height(c.parts, c.hour), impl.Analyse(c.table, c.speed))
+}
+
+// roomyClimate is a case whose lists have room behind them, in which something stands, and a text of all of it.
+func roomyClimate(c climateCase) (given climateCase, told func() string) {
+	given = c
+	series, wholeSeries := roomy(c.series, 5, -5, 77)
+	parts, wholeParts := roomy(c.parts, partOf(1, 2, 3), partOf(101, none, high))
+	table, wholeTable := roomy(c.table, 9, none, below0)
+	years, wholeYears := roomy(c.years, []int64{1, 2}, nil)
+	var wholes [][]int64
+	for i := range years {
+		year, whole := roomy(years[i], 3, -3)
+		years[i], wholes = year, append(wholes, whole)
+	}
+	given.series, given.parts, given.table, given.years = series, parts, table, years
+	return given, func() string { return fmt.Sprint(wholeSeries, wholeParts, wholeTable, wholeYears, wholes) }
+}
+
+func TestSeriesAndTidesStayAsTheyWere(t *testing.T) {
+	for i, c := range climateCases() {
+		given, told := roomyClimate(c)
+		before := told()
+		answers := climateAnswers(given)
+		if told() != before {
+			t.Fatalf("case %d was written into", i)
+		}
+		if answers != climateAnswers(c) {
+			t.Fatalf("case %d: the room behind it shows", i)
+		}
+	}
+}
+
+// What is written into an answer, and into the room behind it, shows neither in an argument nor in another list of the answers nor in a later answer.
+func TestSeriesAndTidesAreNewMemory(t *testing.T) {
+	for i, c := range climateCases() {
+		given, told := roomyClimate(c)
+		before, answers := told(), climateAnswers(c)
+		lists, table, rotated := climateLists(given)
+		for k, l := range lists {
+			rest := fmt.Sprint(lists[:k], lists[k+1:])
+			overwrite(l, -99)
+			if fmt.Sprint(lists[:k], lists[k+1:]) != rest {
+				t.Fatalf("case %d: answer %d shares the memory of another", i, k)
+			}
+		}
+		overwrite(table, -99)
+		overwrite(rotated, partOf(-99, -99, -99))
+		if told() != before || climateAnswers(given) != answers {
+			t.Fatalf("case %d: the answers share its memory", i)
+		}
+	}
+}
+
+// What is written into an argument behind the call shows in no answer, and in none that is asked for anew.
+func TestSeriesAndTidesAreNotKept(t *testing.T) {
+	for i, c := range climateCases() {
+		answers := climateAnswers(c)
+		given, _ := roomyClimate(c)
+		lists, table, rotated := climateLists(given)
+		kept := fmt.Sprint(lists, table, rotated)
+		overwrite(given.series, -99)
+		overwrite(given.parts, partOf(-99, -99, -99))
+		overwrite(given.table, -99)
+		for _, year := range given.years {
+			overwrite(year, -99)
+		}
+		overwrite(given.years, nil)
+		if fmt.Sprint(lists, table, rotated) != kept {
+			t.Fatalf("case %d: the answers share its memory", i)
+		}
+		climateAnswers(given)
+		if climateAnswers(c) != answers {
+			t.Fatalf("case %d: what was asked between shows", i)
+		}
+	}
+}
+
+func TestSameSeriesSameTides(t *testing.T) {
+	cases := climateCases()
+	askedTogether(t, len(cases), func(i int) string { return climateAnswers(cases[i]) })
+}
+
 // answersOf has all that chapters 1 and 2 answer to these numbers, as texts and numbers that can be compared.
 func answersOf(x, y float64, n, m int64, text string) [40]any {
 	var a [40]any
