@@ -180,6 +180,10 @@ func spanOk(s Span) bool {
 	return isTime(s.From) && isTime(s.To) && s.From <= s.To
 }
 
+func holdsTime(s Span, t int64) bool {
+	return s.From <= t && t < s.To
+}
+
 func clockOk(day int64, hour int64, minute int64) bool {
 	return within(day, 1, 31) && within(hour, 0, 24) && within(minute, 0, 59) &&
 		(hour < 24 || minute == 0)

@@ -2,6 +2,7 @@ package tests
 
 import (
 	"fmt"
+	"maps"
 	"math"
 	"runtime"
 	"slices"
@@ -1344,6 +1345,200 @@ func TestSeriesAndTidesAreNotKept(t *testing.T) {
 func TestSameSeriesSameTides(t *testing.T) {
 	cases := climateCases()
 	askedTogether(t, len(cases), func(i int) string { return climateAnswers(cases[i]) })
+}
+
+// flightCase is a call of each function of chapters 21 and 22.
+type flightCase struct {
+	a, b            impl.Sky
+	taf             impl.Taf
+	text            string
+	ref, at         int64
+	series, on, off []int64
+	hold            int64
+	area            []impl.Spot
+	p               impl.Spot
+	desk            impl.Desk
+	warning         impl.Warning
+	now             int64
+}
+
+func flightCases() []flightCase {
+	d := dice(2206)
+	cases := []flightCase{{}, {taf: morning(), text: morningText, ref: midnight, at: clockAt(10, 0), desk: fullDesk(), warning: manyWarnings(1)[0], now: 150}}
+	for _, s := range wrongSkies() {
+		cases = append(cases, flightCase{a: s, b: fullSky(), taf: impl.Taf{Centre: "AMMC", Sky: s}, text: "TAF AMMC=", series: []int64{1}, on: []int64{1, 1}, off: []int64{0, 0}, hold: 1})
+	}
+	wrong := wrongDesks()
+	for _, name := range slices.Sorted(maps.Keys(wrong)) {
+		desk := busyDesk()
+		wrong[name](&desk)
+		cases = append(cases, flightCase{desk: desk, warning: someWarning(), area: desk.Places, now: 150})
+	}
+	for i := range 150 {
+		c := flightCase{a: rolledSky(&d), b: sixteenSkies(rolledSky(&d))[i%16], taf: rolledTaf(&d), hold: 1 + d.below(4), now: d.below(130)}
+		c.text, c.ref, c.at = impl.TafText(c.taf), c.taf.Issued, c.taf.Valid.From+d.below(300)
+		c.series = rolledMembers(&d, 1+i%60, 12)
+		c.on, c.off = rolledBounds(&d)
+		c.area, c.p = rolledArea(&d, 5), spotAt(d.below(9)-4, d.below(9)-4)
+		c.desk, c.warning = impl.Desk{Places: rolledArea(&d, 8)[:3]}, rolledWarning(&d)
+		for range d.below(12) {
+			c.desk, _ = impl.Announce(c.desk, rolledWarning(&d))
+			c.desk, _ = impl.Notify(c.desk, d.below(130))
+		}
+		cases = append(cases, c)
+	}
+	return cases
+}
+
+// answered is a list of an answer: what it says, and a way to write over it.
+type answered struct {
+	text  func() string
+	write func()
+}
+
+func answeredBy[T any](list []T, with T) answered {
+	return answered{func() string { return fmt.Sprint(list) }, func() { overwrite(list, with) }}
+}
+
+// flightLists are the lists that chapters 21 and 22 answer with.
+func flightLists(c flightCase) []answered {
+	read, _ := impl.ReadTaf(c.text, c.ref)
+	_, may, _ := impl.StateAt(c.taf, c.at)
+	levels, _ := impl.Levels(c.series, c.on, c.off, c.hold)
+	announced, _ := impl.Announce(c.desk, c.warning)
+	notified, news := impl.Notify(c.desk, c.now)
+	lists := []answered{
+		answeredBy(read.Changes, impl.Change{Kind: -99}), answeredBy(may, impl.Sky{Dir: -99}), answeredBy(impl.Parts(c.taf), impl.Span{From: -99}),
+		answeredBy(levels, -99), answeredBy(news, impl.Notice{Place: -99}),
+	}
+	return slices.Concat(lists, listsOfDesk(announced), listsOfDesk(notified))
+}
+
+// listsOfDesk has the areas of warnings by themselves.
+func listsOfDesk(d impl.Desk) []answered {
+	lists := []answered{answeredBy(d.Places, spotAt(-99, -99)), answeredBy(d.Told, impl.Notice{Place: -99}), answeredBy(d.Last, impl.Warning{Id: -99})}
+	lists[2].text = func() string {
+		bare := slices.Clone(d.Last)
+		for i := range bare {
+			bare[i].Area = nil
+		}
+		return fmt.Sprint(bare)
+	}
+	for _, w := range d.Last {
+		lists = append(lists, answeredBy(w.Area, spotAt(-99, -99)))
+	}
+	return lists
+}
+
+func textsOf(lists []answered) []string {
+	var texts []string
+	for _, l := range lists {
+		texts = append(texts, l.text())
+	}
+	return texts
+}
+
+// flightAnswers has all that chapters 21 and 22 answer to these arguments.
+func flightAnswers(c flightCase) string {
+	read, ok := impl.ReadTaf(c.text, c.ref)
+	holds, may, there := impl.StateAt(c.taf, c.at)
+	levels, levelled := impl.Levels(c.series, c.on, c.off, c.hold)
+	announced, code := impl.Announce(c.desk, c.warning)
+	notified, news := impl.Notify(c.desk, c.now)
+	return fmt.Sprint(impl.SkyOk(c.a), impl.SkyText(c.a), impl.Laid(c.a, c.b), impl.TafOk(c.taf), impl.TafText(c.taf), read, ok, holds, may, there, impl.Parts(c.taf), impl.WorstSight(c.taf)) +
+		fmt.Sprint(levels, levelled, impl.Inside(c.area, c.p), announced, code, notified, news)
+}
+
+// roomyFlight is a case whose lists have room behind them, in which something stands, and a text of all of it.
+func roomyFlight(c flightCase) (given flightCase, told func() string) {
+	given = c
+	var wholes [3][]int64
+	given.series, wholes[0] = roomy(c.series, 5, -5)
+	given.on, wholes[1] = roomy(c.on, 1000, 2000)
+	given.off, wholes[2] = roomy(c.off, 900, -900)
+	changes, wholeChanges := roomy(c.taf.Changes, impl.Change{Kind: 1}, impl.Change{Kind: 3, From: 60})
+	area, wholeArea := roomy(c.area, spotAt(7, 7), spotAt(8, -8))
+	warned, wholeWarned := roomy(c.warning.Area, spotAt(7, 7), spotAt(8, -8))
+	places, wholePlaces := roomy(c.desk.Places, spotAt(1, 2), spotAt(3, 4))
+	news, wholeNews := roomy(c.desk.Told, noticeOf(3, 3, 3, 3), noticeOf(4, 4, 4, 4))
+	last, wholeLast := roomy(c.desk.Last, someWarning(), impl.Warning{Id: 99})
+	var areas [][]impl.Spot
+	for i := range last {
+		spots, whole := roomy(last[i].Area, spotAt(7, 7), spotAt(8, -8))
+		last[i].Area, areas = spots, append(areas, whole)
+	}
+	given.taf.Changes, given.area, given.warning.Area = changes, area, warned
+	given.desk = impl.Desk{Places: places, Last: last, Told: news}
+	return given, func() string {
+		return fmt.Sprint(wholes, wholeChanges, wholeArea, wholeWarned, wholePlaces, wholeNews, wholeLast, areas)
+	}
+}
+
+func TestForecastsAndDesksStayAsTheyWere(t *testing.T) {
+	for i, c := range flightCases() {
+		given, told := roomyFlight(c)
+		before := told()
+		answers := flightAnswers(given)
+		if told() != before {
+			t.Fatalf("case %d was written into", i)
+		}
+		if answers != flightAnswers(c) {
+			t.Fatalf("case %d: the room behind it shows", i)
+		}
+	}
+}
+
+// What is written into an answer, and into the room behind it, shows neither in an argument nor in another list of the answers nor in a later answer.
+func TestForecastsAndDesksAreNewMemory(t *testing.T) {
+	for i, c := range flightCases() {
+		given, told := roomyFlight(c)
+		before, answers := told(), flightAnswers(c)
+		lists := flightLists(given)
+		for k, l := range lists {
+			rest := slices.Concat(textsOf(lists[:k]), textsOf(lists[k+1:]))
+			l.write()
+			if !slices.Equal(slices.Concat(textsOf(lists[:k]), textsOf(lists[k+1:])), rest) {
+				t.Fatalf("case %d: answer %d shares the memory of another", i, k)
+			}
+		}
+		if told() != before || flightAnswers(given) != answers {
+			t.Fatalf("case %d: the answers share its memory", i)
+		}
+	}
+}
+
+// What is written into an argument behind the call shows in no answer, and in none that is asked for anew.
+func TestForecastsAndDesksAreNotKept(t *testing.T) {
+	for i, c := range flightCases() {
+		answers := flightAnswers(c)
+		given, _ := roomyFlight(c)
+		lists := flightLists(given)
+		kept := textsOf(lists)
+		for _, l := range [][]int64{given.series, given.on, given.off} {
+			overwrite(l, -99)
+		}
+		overwrite(given.taf.Changes, impl.Change{Kind: -99})
+		for _, w := range given.desk.Last {
+			overwrite(w.Area, spotAt(-99, -99))
+		}
+		for _, l := range [][]impl.Spot{given.area, given.warning.Area, given.desk.Places} {
+			overwrite(l, spotAt(-99, -99))
+		}
+		overwrite(given.desk.Last, impl.Warning{Id: -99})
+		overwrite(given.desk.Told, noticeOf(-99, -99, -99, -99))
+		if !slices.Equal(textsOf(lists), kept) {
+			t.Fatalf("case %d: the answers share its memory", i)
+		}
+		flightAnswers(given)
+		if flightAnswers(c) != answers {
+			t.Fatalf("case %d: what was asked between shows", i)
+		}
+	}
+}
+
+func TestSameForecastsSameDesks(t *testing.T) {
+	cases := flightCases()
+	askedTogether(t, len(cases), func(i int) string { return flightAnswers(cases[i]) })
 }
 
 // answersOf has all that chapters 1 and 2 answer to these numbers, as texts and numbers that can be compared.
