@@ -1541,6 +1541,185 @@ func TestSameForecastsSameDesks(t *testing.T) {
 	askedTogether(t, len(cases), func(i int) string { return flightAnswers(cases[i]) })
 }
 
+// suiteCase is a call of each function of chapters 23 and 24.
+type suiteCase struct {
+	say     impl.Say
+	tongue  int64
+	text    string
+	most    int64
+	speed   float64
+	suite   impl.Suite
+	run     impl.Run
+	task, n int64
+	well    bool
+}
+
+func suiteCases(t *testing.T) []suiteCase {
+	t.Helper()
+	d := dice(2405)
+	cases := []suiteCase{{}, {tongue: 1, text: "calm. dry.", most: 4, speed: 8, suite: chainSuite(60), run: busyRun(), task: 2, n: 100}, {text: strings.Repeat("a", 20001), most: 1, speed: none, suite: chainSuite(61), run: impl.Run{Suite: chainSuite(61)}}}
+	for _, name := range slices.Sorted(maps.Keys(wrongRuns())) {
+		c := suiteCase{run: busyRun(), tongue: 2, say: sayOf(0, 1, 1, 1, 1), text: name, most: 9, speed: -1, task: 2, n: 20}
+		wrongRuns()[name](&c.run)
+		c.suite = c.run.Suite
+		cases = append(cases, c)
+	}
+	for _, name := range slices.Sorted(maps.Keys(rightRuns())) {
+		c := suiteCase{run: busyRun(), tongue: 3, say: sayOf(1, 1, 1, 1, 1), text: "cisza. sucho.", most: 7, speed: 3, task: 2, n: 20}
+		rightRuns()[name](&c.run)
+		c.suite = c.run.Suite
+		cases = append(cases, c)
+	}
+	winds := allWinds()
+	for i := range 150 {
+		c := suiteCase{say: winds[d.below(13*97)], tongue: int64(i % 5), most: d.below(40), speed: float64(d.below(500)) / 10, suite: rolledSuite(&d), n: d.below(60), well: i%2 == 0}
+		c.text = impl.Phrase(c.say, c.tongue) + strings.Repeat(" ", i%4/3)
+		c.run, _ = impl.NewRun(c.suite)
+		l := ledger{map[int64]int{}, map[int64]int{}, map[int64]int{}}
+		for range d.below(60) {
+			c.run = l.step(t, &d, c.run)
+		}
+		c.task = d.below(int64(len(c.suite.Tasks)) + 2)
+		if list := running(c.run); len(list) > 0 {
+			c.task = list[0]
+		}
+		cases = append(cases, c)
+	}
+	// Two tasks whose lists are one.
+	shared := []int64{1, 2}
+	s := impl.Suite{Limits: []int64{2}, Tasks: []impl.Task{taskOf(1, 5, 2), taskOf(1, 6, 2), {After: shared, Group: 1, Late: 7, Most: 1}, {After: shared, Group: 1, Late: 8, Most: 1}, {After: shared[:1], Group: 1, Most: 1}}}
+	return append(cases, suiteCase{suite: s, run: impl.Run{Suite: s, Tasks: []impl.Job{jobOf(impl.JRun, 2), jobOf(impl.JDone, 1), {}, {}, {}}}, task: 1, n: 9})
+}
+
+// suiteRuns are the runs that chapter 24 answers with.
+func suiteRuns(c suiteCase) []impl.Run {
+	fresh, _ := impl.NewRun(c.suite)
+	started, _ := impl.StartTasks(c.run)
+	reported, _ := impl.Report(c.run, c.task, c.well)
+	refused, _ := impl.Report(c.run, 0, c.well)
+	ticked, _ := impl.TickRun(c.run, c.n)
+	return []impl.Run{fresh, started, reported, refused, impl.CrashRun(c.run), ticked}
+}
+
+// suiteLists are the lists that chapter 24 answers with.
+func suiteLists(c suiteCase) []answered {
+	_, started := impl.StartTasks(c.run)
+	_, late := impl.TickRun(c.run, c.n)
+	lists := []answered{answeredBy(started, -99), answeredBy(late, -99), answeredBy(impl.Stuck(c.run), -99)}
+	for _, r := range suiteRuns(c) {
+		lists = append(lists, listsOfRun(r)...)
+	}
+	return lists
+}
+
+// listsOfRun has what tasks come behind by itself.
+func listsOfRun(r impl.Run) []answered {
+	lists := []answered{answeredBy(r.Tasks, jobOf(-99, -99)), answeredBy(r.Suite.Limits, -99), answeredBy(r.Suite.Tasks, impl.Task{Group: -99})}
+	lists[2].text = func() string {
+		bare := slices.Clone(r.Suite.Tasks)
+		for i := range bare {
+			bare[i].After = nil
+		}
+		return fmt.Sprint(bare)
+	}
+	for _, task := range r.Suite.Tasks {
+		lists = append(lists, answeredBy(task.After, -99))
+	}
+	return lists
+}
+
+// suiteAnswers has all that chapters 23 and 24 answer to these arguments.
+func suiteAnswers(c suiteCase) string {
+	say, read := impl.ReadPhrase(c.text, c.tongue)
+	_, fresh := impl.NewRun(c.suite)
+	_, started := impl.StartTasks(c.run)
+	_, reported := impl.Report(c.run, c.task, c.well)
+	_, late := impl.TickRun(c.run, c.n)
+	return fmt.Sprintf("%q %v %v %q %v", impl.Phrase(c.say, c.tongue), say, read, impl.Title(c.text, c.most), impl.Beaufort(c.speed)) +
+		fmt.Sprint(impl.SuiteOk(c.suite), fresh, started, reported, late, impl.Stuck(c.run), suiteRuns(c))
+}
+
+// roomySuite is a suite whose lists have room behind them, in which something stands, and a text of all of it.
+func roomySuite(s impl.Suite) (given impl.Suite, told func() string) {
+	limits, wholeLimits := roomy(s.Limits, 3, -3)
+	tasks, wholeTasks := roomy(s.Tasks, taskOf(1, 0, 1), taskOf(9, 9, 9, 1))
+	var wholes [][]int64
+	for i := range tasks {
+		after, whole := roomy(tasks[i].After, 77, 1)
+		tasks[i].After, wholes = after, append(wholes, whole)
+	}
+	return impl.Suite{Tasks: tasks, Limits: limits}, func() string { return fmt.Sprint(wholeLimits, wholeTasks, wholes) }
+}
+
+func roomyRun(c suiteCase) (given suiteCase, told func() string) {
+	given = c
+	suite, toldSuite := roomySuite(c.suite)
+	ran, toldRan := roomySuite(c.run.Suite)
+	jobs, wholeJobs := roomy(c.run.Tasks, jobOf(impl.JRun, 1), jobOf(9, 9))
+	given.suite, given.run = suite, impl.Run{Suite: ran, Now: c.run.Now, Tasks: jobs}
+	return given, func() string { return toldSuite() + toldRan() + fmt.Sprint(wholeJobs) }
+}
+
+func TestPhrasesAndRunsStayAsTheyWere(t *testing.T) {
+	for i, c := range suiteCases(t) {
+		given, told := roomyRun(c)
+		before := told()
+		answers := suiteAnswers(given)
+		if told() != before {
+			t.Fatalf("case %d was written into", i)
+		}
+		if answers != suiteAnswers(c) {
+			t.Fatalf("case %d: the room behind it shows", i)
+		}
+	}
+}
+
+// What is written into an answer, and into the room behind it, shows neither in an argument nor in another list of the answers nor in a later answer.
+func TestPhrasesAndRunsAreNewMemory(t *testing.T) {
+	for i, c := range suiteCases(t) {
+		given, told := roomyRun(c)
+		before, answers := told(), suiteAnswers(c)
+		for _, own := range []suiteCase{given, c} {
+			lists := suiteLists(own)
+			texts := textsOf(lists)
+			for k, l := range lists {
+				if l.text() != texts[k] {
+					t.Fatalf("case %d: answer %d shares the memory of one ahead of it", i, k)
+				}
+				l.write()
+			}
+		}
+		if told() != before || suiteAnswers(given) != answers || suiteAnswers(c) != answers {
+			t.Fatalf("case %d: the answers share its memory", i)
+		}
+	}
+}
+
+// What is written into an argument behind the call shows in no answer, and in none that is asked for anew.
+func TestPhrasesAndRunsAreNotKept(t *testing.T) {
+	for i, c := range suiteCases(t) {
+		answers := suiteAnswers(c)
+		given, _ := roomyRun(c)
+		lists := suiteLists(given)
+		kept := textsOf(lists)
+		for _, l := range append(listsOfRun(given.run), listsOfRun(impl.Run{Suite: given.suite})...) {
+			l.write()
+		}
+		if !slices.Equal(textsOf(lists), kept) {
+			t.Fatalf("case %d: the answers share its memory", i)
+		}
+		suiteAnswers(given)
+		if suiteAnswers(c) != answers {
+			t.Fatalf("case %d: what was asked between shows", i)
+		}
+	}
+}
+
+func TestSamePhrasesSameRuns(t *testing.T) {
+	cases := suiteCases(t)
+	askedTogether(t, len(cases), func(i int) string { return suiteAnswers(cases[i]) })
+}
+
 // answersOf has all that chapters 1 and 2 answer to these numbers, as texts and numbers that can be compared.
 func answersOf(x, y float64, n, m int64, text string) [40]any {
 	var a [40]any
