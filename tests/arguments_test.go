@@ -1720,6 +1720,131 @@ func TestSamePhrasesSameRuns(t *testing.T) {
 	askedTogether(t, len(cases), func(i int) string { return suiteAnswers(cases[i]) })
 }
 
+type archiveCase struct {
+	archive       []impl.Entry
+	entry         impl.Entry
+	request       impl.Request
+	text, script  string
+	budget, slots int64
+}
+
+func archiveCases() []archiveCase {
+	d := dice(2701)
+	few := manyEntries(5)
+	cases := []archiveCase{
+		{}, {archive: few, entry: few[2], request: keyOf(few[3]), text: "param=t/u,step=0/to/12/by/6,level=5/4,time=2000-01-02T00:00Z", script: "station 1 0 0\nreport 00001 10105 40501=\njudge\ntext 1\n", budget: 4, slots: 2},
+		{archive: manyEntries(300), entry: manyEntries(300)[150], request: rightRequests()["40 of each"], text: "level=0/to/39", script: "x", budget: impl.MaxClock, slots: 100}, {archive: manyEntries(300), entry: entryOf("q", 1, 1, 1, 1), text: strings.Repeat("a", 20001), script: strings.Repeat("x", 20001), budget: -1}, {archive: manyEntries(301), entry: few[0], text: "step=6/to/5", slots: 1, budget: 9},
+	}
+	for _, name := range slices.Sorted(maps.Keys(wrongArchives())) {
+		cases = append(cases, archiveCase{archive: wrongArchives()[name], entry: few[1], request: keyOf(few[1]), text: name, script: name + "\n", budget: 300, slots: 3})
+	}
+	for _, name := range slices.Sorted(maps.Keys(wrongRequests())) {
+		cases = append(cases, archiveCase{archive: few, entry: few[4], request: wrongRequests()[name], text: "level=0/to/40", script: "get x\n", budget: 1, slots: 1})
+	}
+	for i := range 150 {
+		c := archiveCase{archive: manyEntries(int(d.below(40))), entry: rolledEntry(&d), request: rolledRequest(&d), text: rolledRequestText(&d), script: scriptOf(rolledScript(&d, d.below(30))), budget: d.below(60), slots: 1 + d.below(5)}
+		if i%3 == 0 {
+			c.request = impl.Request{Params: []string{"a", "b"}}
+		}
+		cases = append(cases, c)
+	}
+	// Lists that are one.
+	shared := []int64{0, 200, 300}
+	return append(cases, archiveCase{archive: few, entry: few[0], request: impl.Request{Times: shared, Steps: shared[:2], Levels: shared[:2]}, text: "step=1/2,level=1/2", budget: 3, slots: 2})
+}
+
+// archiveLists are the lists that chapter 25 answers with.
+func archiveLists(c archiveCase) []answered {
+	kept, _ := impl.Store(c.archive, c.entry)
+	read, _ := impl.ReadRequest(c.text)
+	dealt, _ := impl.Deal(c.archive, c.budget, c.slots)
+	return append(listsOfRequest(read), answeredBy(kept, impl.Entry{Size: -99}), answeredBy(impl.Pick(c.archive, c.request), impl.Entry{Size: -99}), answeredBy(impl.Pick(c.archive, impl.Request{}), impl.Entry{Size: -99}), answeredBy(dealt, -99))
+}
+
+func listsOfRequest(r impl.Request) []answered {
+	return []answered{answeredBy(r.Params, "#"), answeredBy(r.Times, -99), answeredBy(r.Steps, -99), answeredBy(r.Levels, -99)}
+}
+
+// archiveAnswers has all that chapters 25 and 26 answer to these arguments.
+func archiveAnswers(c archiveCase) string {
+	_, kept := impl.Store(c.archive, c.entry)
+	_, code := impl.ReadRequest(c.text)
+	_, dealt := impl.Deal(c.archive, c.budget, c.slots)
+	return fmt.Sprintf("%v %v %v %q %q %q", kept, code, dealt, impl.RequestText(c.request), impl.Serve(c.script), textsOf(archiveLists(c)))
+}
+
+// roomyArchive has lists with room behind them, in which something stands, and a text of all of it.
+func roomyArchive(c archiveCase) (given archiveCase, told func() string) {
+	given = c
+	archive, wholeArchive := roomy(c.archive, entryOf("zzzz", 5, 5, 5, 5), entryOf("?", -1, -1, -1, -1))
+	params, wholeParams := roomy(c.request.Params, "zzzz", "?")
+	times, wholeTimes := roomy(c.request.Times, impl.MaxTime, -1)
+	steps, wholeSteps := roomy(c.request.Steps, 360, -1)
+	levels, wholeLevels := roomy(c.request.Levels, 1100, -1)
+	given.archive, given.request = archive, impl.Request{Params: params, Times: times, Steps: steps, Levels: levels}
+	return given, func() string { return fmt.Sprint(wholeArchive, wholeParams, wholeTimes, wholeSteps, wholeLevels) }
+}
+
+func TestArchivesStayAsTheyWere(t *testing.T) {
+	for i, c := range archiveCases() {
+		given, told := roomyArchive(c)
+		before := told()
+		answers := archiveAnswers(given)
+		if told() != before {
+			t.Fatalf("case %d was written into", i)
+		}
+		if answers != archiveAnswers(c) {
+			t.Fatalf("case %d: the room behind it shows", i)
+		}
+	}
+}
+
+// What is written into an answer, and into the room behind it, shows neither in an argument nor in another list of the answers nor in a later answer.
+func TestArchivesAreNewMemory(t *testing.T) {
+	for i, c := range archiveCases() {
+		given, told := roomyArchive(c)
+		before, answers := told(), archiveAnswers(c)
+		for _, own := range []archiveCase{given, c} {
+			lists := archiveLists(own)
+			texts := textsOf(lists)
+			for k, l := range lists {
+				if l.text() != texts[k] {
+					t.Fatalf("case %d: answer %d shares the memory of one ahead of it", i, k)
+				}
+				l.write()
+			}
+		}
+		if told() != before || archiveAnswers(given) != answers || archiveAnswers(c) != answers {
+			t.Fatalf("case %d: the answers share its memory", i)
+		}
+	}
+}
+
+// What is written into an argument behind the call shows in no answer, and in none that is asked for anew.
+func TestArchivesAreNotKept(t *testing.T) {
+	for i, c := range archiveCases() {
+		answers := archiveAnswers(c)
+		given, _ := roomyArchive(c)
+		lists := archiveLists(given)
+		kept := textsOf(lists)
+		for _, l := range append(listsOfRequest(given.request), answeredBy(given.archive, impl.Entry{Param: "q", Size: 99})) {
+			l.write()
+		}
+		if !slices.Equal(textsOf(lists), kept) {
+			t.Fatalf("case %d: the answers share its memory", i)
+		}
+		archiveAnswers(given)
+		if archiveAnswers(c) != answers {
+			t.Fatalf("case %d: what was asked between shows", i)
+		}
+	}
+}
+
+func TestSameArchivesSameService(t *testing.T) {
+	cases := archiveCases()
+	askedTogether(t, len(cases), func(i int) string { return archiveAnswers(cases[i]) })
+}
+
 // answersOf has all that chapters 1 and 2 answer to these numbers, as texts and numbers that can be compared.
 func answersOf(x, y float64, n, m int64, text string) [40]any {
 	var a [40]any
